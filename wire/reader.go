@@ -116,8 +116,11 @@ func (r *Reader) fail() {
 	}
 }
 
-// value returns anything after a fault. open counts the lists and objects that the value is in.
+// value returns anything after a fault. open counts the values that it is in: with those, also one without elements may be nested too deep.
 func (r *Reader) value(open int) api.Value {
+	if open == api.MaxNest {
+		r.fail()
+	}
 	v := api.Value{Kind: byte(r.Uint(uint64(api.VRef)))}
 	switch v.Kind {
 	case api.VInt:
@@ -136,9 +139,6 @@ func (r *Reader) value(open int) api.Value {
 }
 
 func (r *Reader) elements(v *api.Value, open int) {
-	if open > api.MaxNest {
-		r.fail()
-	}
 	for range r.Uint(api.MaxList) {
 		if v.Kind == api.VObject {
 			v.K = append(v.K, r.Text(api.MaxName))

@@ -409,45 +409,65 @@ func TestBounds(t *testing.T) {
 	}
 }
 
-// P3.2: how deep lists and objects may be in one another.
+// atDepth checks a value that is nested as deep as may be, and one that is nested deeper.
+func atDepth(t *testing.T, what string, deep, beyond api.Value) {
+	t.Helper()
+	r := wire.Read(writer().Value(deep).Done())
+	if got := r.Value(); !wire.Same(got, deep) || !r.End() || !wire.Form(deep) {
+		t.Errorf("%s at the limit: End %v, Form %v", what, r.End(), wire.Form(deep))
+	}
+	bad(t, ofValue, append(writer().Value(beyond).Done(), make([]byte, 300)...))
+	if wire.Form(beyond) {
+		t.Errorf("%s beyond the limit: Form", what)
+	}
+}
+
+// P3.2, P3.3: how many values may be within one another, of whatever kind the innermost one is.
 func TestNest(t *testing.T) {
-	for _, objects := range []bool{false, true} {
-		for _, v := range []api.Value{null(), num(1), text("x")} {
-			deep := inside(api.MaxNest, objects, v)
-			r := wire.Read(writer().Value(deep).Done())
-			if got := r.Value(); !wire.Same(got, deep) || !r.End() || !wire.Form(deep) {
-				t.Errorf("at the limit: End %v, Form %v", r.End(), wire.Form(deep))
-			}
-			beyond := inside(api.MaxNest+1, objects, v)
-			bad(t, ofValue, writer().Value(beyond).Done())
-			if wire.Form(beyond) {
-				t.Errorf("beyond the limit: Form")
-			}
+	kinds := []api.Value{null(), num(1), text("x"), truth(1), enum("A"), list(), object(nil), vari("v"), refer("1")}
+	for kind, v := range kinds {
+		if int(v.Kind) != kind {
+			t.Fatalf("the kind %d is not tested", kind)
 		}
-		for _, empty := range []api.Value{list(), object(nil)} {
-			deep, beyond := inside(api.MaxNest-1, objects, empty), inside(api.MaxNest, objects, empty)
-			r := wire.Read(writer().Value(deep).Done())
-			if got := r.Value(); !wire.Same(got, deep) || !r.End() || !wire.Form(deep) {
-				t.Errorf("empty, at the limit: End %v, Form %v", r.End(), wire.Form(deep))
+		for _, objects := range []bool{false, true} {
+			deep := inside(api.MaxNest-1, objects, v)
+			for _, beyond := range []api.Value{list(deep), object([]string{"k"}, deep), inside(2, objects, deep), inside(200, objects, deep)} {
+				atDepth(t, "kind "+spaced([]byte{v.Kind}), deep, beyond)
 			}
-			bad(t, ofValue, writer().Value(beyond).Done())
-			if wire.Form(beyond) {
-				t.Errorf("empty, beyond the limit: Form")
-			}
+			lists := api.MaxNest - 2
+			atDepth(t, "lists around objects", inside(lists, false, inside(1, objects, v)), inside(lists+1, false, inside(1, objects, v)))
+			atDepth(t, "objects around lists", inside(lists, true, inside(1, objects, v)), inside(lists+1, true, inside(1, objects, v)))
 		}
 	}
-	wide := list(inside(api.MaxNest-1, false, null()), inside(api.MaxNest-1, true, null()))
-	r := wire.Read(writer().Value(wide).Done())
-	if got := r.Value(); !wire.Same(got, wide) || !r.End() || !wire.Form(wide) {
-		t.Errorf("two deep ones side by side: End %v, Form %v", r.End(), wire.Form(wide))
+}
+
+// P3.2, P3.3: what stands beside a value is not around it, and one element that is nested too deep is enough.
+func TestNestSideBySide(t *testing.T) {
+	a, b := inside(api.MaxNest-2, false, null()), inside(api.MaxNest-2, true, num(1))
+	atDepth(t, "two in a list", list(a, b), list(a, list(b)))
+	atDepth(t, "two in a list", list(b, a, null()), list(list(b), a, null()))
+	atDepth(t, "two in an object", object([]string{"a", "b"}, a, b), object([]string{"a", "b"}, a, list(b)))
+	innermost := list(null(), num(1), text("x"))
+	atDepth(t, "many in the innermost list", inside(api.MaxNest-2, false, innermost), inside(api.MaxNest-1, false, innermost))
+	r := wire.Read(writer().Value(list(a, b)).Value(list(b, a)).Done())
+	if x, y := r.Value(), r.Value(); !wire.Same(x, list(a, b)) || !wire.Same(y, list(b, a)) || !r.End() {
+		t.Errorf("two deep values, one after the other: End %v", r.End())
 	}
-	x := api.Entity{K: []string{"k"}, L: []api.Value{inside(api.MaxNest-1, false, num(1))}}
-	r = wire.Read(writer().Entity(x).Done())
-	if got := r.Entity(); !r.End() || !wire.Same(list(got.L...), list(x.L...)) {
-		t.Errorf("a field at the limit: End %v", r.End())
+}
+
+// P3.2: the fields of an entity are encoded as an object, which is a value around them.
+func TestNestInEntity(t *testing.T) {
+	for _, v := range []api.Value{null(), num(1), list(), object(nil)} {
+		for _, objects := range []bool{false, true} {
+			x := api.Entity{K: []string{"j", "k"}, L: []api.Value{null(), inside(api.MaxNest-2, objects, v)}}
+			r := wire.Read(writer().Entity(x).Done())
+			if got := r.Entity(); !r.End() || !wire.Same(list(got.L...), list(x.L...)) {
+				t.Errorf("a field at the limit: End %v", r.End())
+			}
+			x.L[1] = inside(api.MaxNest-1, objects, v)
+			bad(t, ofEntity, append(writer().Entity(x).Done(), make([]byte, 300)...))
+		}
 	}
-	x.L[0] = list(x.L[0])
-	bad(t, ofEntity, writer().Entity(x).Done())
 }
 
 // P3.2: entities that are none.
